@@ -1,0 +1,1 @@
+"""Oftentogether: what is often taken together."""

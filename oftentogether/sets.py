@@ -1,0 +1,39 @@
+"""Sets of wares: rising tuples of unlike numbers from 0 to 11."""
+
+from oftentogether.checks import is_number
+
+MOST_WARES = 12
+
+
+def is_set(thing, wares=12):
+    if not isinstance(thing, tuple):
+        return False
+    # What is no ware at all isn't one of the wares below a greater number either.
+    bound = min(wares, MOST_WARES)
+    if not all([is_number(ware) and ware < bound for ware in thing]):
+        return False
+    return all([lower < higher for lower, higher in zip(thing, thing[1:])])
+
+
+def mark_of(some):
+    return sum([1 << ware for ware in some])
+
+
+def set_of(mark):
+    return tuple([ware for ware in range(mark.bit_length()) if (mark >> ware) % 2 == 1])
+
+
+def lies_below(one, other):
+    return all([ware in other for ware in one])
+
+
+def met(one, other):
+    return tuple([ware for ware in one if ware in other])
+
+
+def joined(one, other):
+    return tuple(sorted(set(one) | set(other)))
+
+
+def is_ahead(one, other):
+    return (len(one), one) < (len(other), other)
