@@ -35,5 +35,23 @@ def joined(one, other):
     return tuple(sorted(set(one) | set(other)))
 
 
+def order_of(some):
+    return (len(some), some)
+
+
 def is_ahead(one, other):
-    return (len(one), one) < (len(other), other)
+    return order_of(one) < order_of(other)
+
+
+def all_sets(wares):
+    return sorted([set_of(mark) for mark in range(1 << wares)], key=order_of)
+
+
+def one_ware_more(some, wares):
+    # Each set comes of just one shorter one by a ware behind its last, so nobody meets it twice.
+    first = some[-1] + 1 if some else 0
+    return [some + (ware,) for ware in range(first, wares)]
+
+
+def one_ware_fewer(some):
+    return [some[:place] + some[place + 1:] for place in range(len(some))]

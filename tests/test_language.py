@@ -31,6 +31,11 @@ WORDS = set("""type typing typing_extensions enum Enum IntEnum StrEnum Flag IntF
 
 PARTS = ("dataclass", "overload", "contextmanager")
 
+METHODS = set("""append clear copy count endswith extend find get index insert isalnum isalpha
+    isdigit islower isspace isupper items join keys ljust lower lstrip partition pop remove replace
+    reverse rfind rjust rpartition rsplit rstrip setdefault split splitlines startswith strip update
+    upper values zfill bit_length""".split())
+
 SPECIAL = {"__init__", "__eq__", "__repr__", "__str__", "__len__"}
 
 PLAIN = re.compile(r"[A-Za-z][A-Za-z0-9_]*\Z")
@@ -63,6 +68,27 @@ def bound_names(tree):
         elif isinstance(node, ast.ImportFrom):
             found.extend(name.asname or name.name for name in node.names)
     return found
+
+
+def drawn_from(tree):
+    return [(node.module.split(".")[1], [part.name for part in node.names])
+            for node in tree.body if isinstance(node, ast.ImportFrom)]
+
+
+def names_within(function):
+    return ({node.arg for node in ast.walk(function) if isinstance(node, ast.arg)}
+            | {node.id for node in ast.walk(function)
+               if isinstance(node, ast.Name) and isinstance(node.ctx, ast.Store)})
+
+
+def own_methods(tree):
+    return {part.name for node in ast.walk(tree) if isinstance(node, ast.ClassDef)
+            for part in node.body if isinstance(part, ast.FunctionDef)}
+
+
+def own_values(tree):
+    return {node.attr for node in ast.walk(tree)
+            if isinstance(node, ast.Attribute) and isinstance(node.ctx, ast.Store)}
 
 
 class Language(unittest.TestCase):
@@ -151,6 +177,43 @@ class Language(unittest.TestCase):
                     self.assertIsInstance(node, ast.Expr, name)
                     self.assertIs(node, tree.body[0], name)
             self.assertEqual(len(top), len(set(top)), name)
+
+    def test_names_are_drawn_from_the_file_that_defines_them(self):
+        defined = {}
+        for name, text, tree in parsed():
+            defined[name[:-len(".py")]] = {node.name for node in tree.body if hasattr(node, "name")} | {
+                node.targets[0].id for node in tree.body if isinstance(node, ast.Assign)}
+        for name, text, tree in parsed():
+            for module, names in drawn_from(tree):
+                self.assertLessEqual(set(names), defined[module], name)
+
+    def test_no_two_files_draw_from_one_another(self):
+        draws = {name[:-len(".py")]: [module for module, names in drawn_from(tree)]
+                 for name, text, tree in parsed()}
+        self.assertEqual(draws["__init__"], [])
+        while draws:
+            ends = [name for name in draws if not set(draws[name]) & set(draws)]
+            self.assertNotEqual(ends, [], draws)
+            for name in ends:
+                del draws[name]
+
+    def test_no_local_is_called_like_a_class_or_an_import_of_its_file(self):
+        for name, text, tree in parsed():
+            taken = {part for module, names in drawn_from(tree) for part in names}
+            taken |= {node.name for node in tree.body if isinstance(node, ast.ClassDef)}
+            for node in ast.walk(tree):
+                if isinstance(node, ast.FunctionDef):
+                    self.assertEqual(names_within(node) & taken, set(), (name, node.name))
+
+    def test_methods_and_values(self):
+        trees = [tree for name, text, tree in parsed()]
+        methods = set().union(*[own_methods(tree) for tree in trees])
+        values = set().union(*[own_values(tree) for tree in trees])
+        self.assertEqual(methods & values, set())
+        for tree in trees:
+            for node in ast.walk(tree):
+                if isinstance(node, ast.Attribute):
+                    self.assertIn(node.attr, METHODS | methods | values, node.lineno)
 
 
 if __name__ == "__main__":
