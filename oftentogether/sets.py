@@ -53,5 +53,9 @@ def one_ware_more(some, wares):
     return [some + (ware,) for ware in range(first, wares)]
 
 
+def any_ware_more(some, wares):
+    return [joined(some, (ware,)) for ware in range(wares) if ware not in some]
+
+
 def one_ware_fewer(some):
     return [some[:place] + some[place + 1:] for place in range(len(some))]

@@ -38,6 +38,9 @@ METHODS = set("""append clear copy count endswith extend find get index insert i
 
 SPECIAL = {"__init__", "__eq__", "__repr__", "__str__", "__len__"}
 
+KEYWORDS = {"sorted": {"key", "reverse"}, "min": {"key", "default"}, "max": {"key", "default"},
+            "sum": {"start"}, "enumerate": {"start"}, "zip": {"strict"}}
+
 PLAIN = re.compile(r"[A-Za-z][A-Za-z0-9_]*\Z")
 
 
@@ -204,6 +207,22 @@ class Language(unittest.TestCase):
             for node in ast.walk(tree):
                 if isinstance(node, ast.FunctionDef):
                     self.assertEqual(names_within(node) & taken, set(), (name, node.name))
+
+    def test_is_stands_beside_none_true_and_false_alone(self):
+        for name, text, tree in parsed():
+            for node in ast.walk(tree):
+                if isinstance(node, ast.Compare):
+                    for kind, right in zip(node.ops, node.comparators):
+                        if isinstance(kind, (ast.Is, ast.IsNot)):
+                            self.assertIsInstance(right, ast.Constant, (name, node.lineno))
+                            self.assertIn(right.value, (None, True, False), (name, node.lineno))
+
+    def test_keywords_of_python_s_own(self):
+        for name, text, tree in parsed():
+            for node in ast.walk(tree):
+                if isinstance(node, ast.Call) and isinstance(node.func, ast.Name) and node.func.id in OWN:
+                    given = {part.arg for part in node.keywords}
+                    self.assertLessEqual(given, KEYWORDS.get(node.func.id, set()), (name, node.lineno))
 
     def test_methods_and_values(self):
         trees = [tree for name, text, tree in parsed()]

@@ -4,27 +4,13 @@ import unittest
 from itertools import combinations
 
 from oftentogether.sets import is_ahead, is_set, joined, lies_below, mark_of, met, set_of
+from tests.by_hand import Odd
 
 ALL = tuple(range(12))
 # Made without the program, in the order of sets: shorter ones first, then by the
 # first place where they differ.
 IN_ORDER = [some for size in range(13) for some in combinations(range(12), size)]
 SOME = IN_ORDER[::37] + [(), (0,), (11,), (0, 11), ALL[1:], ALL[:-1], ALL]
-
-
-class Odd:
-    def __eq__(self, other):
-        raise RuntimeError("not to be compared")
-
-    __hash__ = None
-
-    def __lt__(self, other):
-        raise RuntimeError("not to be compared")
-
-    __gt__ = __le__ = __ge__ = __lt__
-
-    def __bool__(self):
-        raise RuntimeError("not to be asked")
 
 
 class IsSet(unittest.TestCase):

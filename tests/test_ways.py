@@ -1,110 +1,21 @@
 """Points 8, 9 and 10, and point 2 as far as it speaks of the four ways."""
 
 import copy
-import functools
 import random
 import unittest
-from itertools import combinations
 
 from oftentogether.branching import Branching
 from oftentogether.growing import Growing
 from oftentogether.meeting import Meeting
 from oftentogether.ways import Way
+from tests.by_hand import (GREAT, MOST, SHOP, SMALL, check_pairs, counted_by_hand, counted_sets,
+                           leasts_for, often_by_hand, random_pile, sets_in_order)
 
 WAYS = (Way, Growing, Meeting, Branching)
 UNDER = (Growing, Meeting, Branching)
-MOST = 10 ** 12
-SHOP = (4, ((3, (0, 1)), (2, (0, 1, 3)), (5, ()), (1, (0, 1)), (4, (1, 3)), (7, (0,))))
 
 
-def sets_in_order(wares):
-    """Made without the program: shorter ones first, then by the first place where they differ."""
-    return [some for size in range(wares + 1) for some in combinations(range(wares), size)]
-
-
-@functools.cache
-def counted_by_hand(pile):
-    return [(some, sum(many for many, basket in pile[1] if set(some) <= set(basket)))
-            for some in sets_in_order(pile[0])]
-
-
-def often_by_hand(pile, least):
-    return tuple(pair for pair in counted_by_hand(pile) if pair[1] >= least)
-
-
-def counted_sets(pile, least):
-    """The often sets, and the seldom ones all of whose sets of one ware fewer are often."""
-    counts = counted_by_hand(pile)
-    often = {some for some, number in counts if number >= least}
-    return tuple((some, number) for some, number in counts
-                 if all(some[:place] + some[place + 1:] in often for place in range(len(some))))
-
-
-def leasts_for(pile):
-    """1, the count of each set, one more and one less than it, and more than there are baskets."""
-    counts = {number for some, number in counted_by_hand(pile)}
-    near = {number + step for number in counts for step in (-1, 0, 1)} | {1, 10 ** 60}
-    return sorted(least for least in near if least >= 1)
-
-
-def random_pile(source, wares, size, manies):
-    sets = sets_in_order(wares)
-    return (wares, tuple((source.choice(manies), source.choice(sets)) for step in range(size)))
-
-
-def small_piles():
-    source = random.Random(8)
-    made = []
-    for wares in range(7):
-        full = tuple(range(wares))
-        made.append((wares, ()))
-        made.append((wares, ((1, ()),)))
-        made.append((wares, ((MOST, full),)))
-        made.append((wares, ((3, full), (2, ()), (3, full), (1, ()))))
-        made.append((wares, tuple((ware + 1, (ware,)) for ware in full)))
-        made.append((wares, tuple((1, full[:ware] + full[ware + 1:]) for ware in full)))
-        for size in (1, 2, 3, 8, 40):
-            made.append(random_pile(source, wares, size, (1, 2, 3)))
-            made.append(random_pile(source, wares, size, (1, 7, MOST - 1, MOST)))
-        some = random_pile(source, wares, 4, (1, 5))
-        made.append((wares, some[1] + ((2, ()),) + some[1][::-1]))
-    made.append((6, tuple((MOST, basket) for basket in sets_in_order(6)) * 3))
-    made.append((5, ((MOST, (0, 1, 2, 3, 4)),) * 200))
-    return made + [SHOP]
-
-
-def great_piles():
-    source = random.Random(9)
-    made = []
-    for wares in range(7, 13):
-        full = tuple(range(wares))
-        made.append((wares, ()))
-        made.append((wares, ((MOST, full),)))
-        made.append((wares, ((2, full[1:]), (1, ()), (2, full[:-1]), (2, full[1:]))))
-        made.append((wares, ((1, full[::2]), (1, full[1::2]), (4, full[wares // 2:]), (1, full))))
-        for size in (2, 3, 6):
-            made.append(random_pile(source, wares, size, (1, 2, 9, MOST)))
-    return made
-
-
-SMALL = small_piles()
-GREAT = great_piles()
-
-
-class Ways(unittest.TestCase):
-    def check_form(self, told, wares):
-        self.assertIs(type(told), tuple)
-        for pair in told:
-            self.assertIs(type(pair), tuple)
-            self.assertEqual(len(pair), 2)
-            self.assertIs(type(pair[0]), tuple)
-            self.assertIs(type(pair[1]), int)
-            for ware in pair[0]:
-                self.assertIs(type(ware), int)
-                self.assertIn(ware, range(wares))
-
-
-class Classes(Ways):
+class Classes(unittest.TestCase):
     def test_three_stand_each_right_under_way(self):
         for way in UNDER:
             self.assertEqual(way.__bases__, (Way,), way)
@@ -129,7 +40,7 @@ class Classes(Ways):
             self.assertEqual(way().often(pile=(1, ((2, (0,)),)), least=2), (((), 2), ((0,), 2)))
 
 
-class Often(Ways):
+class Often(unittest.TestCase):
     def test_by_hand(self):
         asked = {
             1: (((), 22), ((0,), 13), ((1,), 10), ((3,), 6), ((0, 1), 6), ((0, 3), 2), ((1, 3), 6),
@@ -208,10 +119,10 @@ class Often(Ways):
     def test_the_form(self):
         for pile in SMALL + GREAT:
             for way in WAYS:
-                self.check_form(way().often(pile, 1), pile[0])
+                check_pairs(self, way().often(pile, 1), pile[0])
 
 
-class Alike(Ways):
+class Alike(unittest.TestCase):
     def test_great_piles(self):
         for pile in GREAT:
             baskets = sum(many for many, basket in pile[1])
@@ -244,7 +155,7 @@ class Alike(Ways):
                     self.assertEqual(way().often(pile, least), told, (way, least))
 
 
-class Point2(Ways):
+class Point2(unittest.TestCase):
     def test_one_object_asked_of_one_pile_then_another_then_the_first(self):
         for way in WAYS:
             asked = way()
@@ -281,7 +192,7 @@ class Point2(Ways):
                 self.assertEqual(repr(pile), was)
 
 
-class Counted(Ways):
+class Counted(unittest.TestCase):
     def test_by_hand(self):
         asked = {
             1: (((), 22), ((0,), 13), ((1,), 10), ((2,), 0), ((3,), 6), ((0, 1), 6), ((0, 3), 2),
@@ -343,14 +254,14 @@ class Counted(Ways):
     def test_the_form(self):
         for pile in SMALL + GREAT:
             told = Growing().counted(pile, 2)
-            self.check_form(told, pile[0])
+            check_pairs(self, told, pile[0])
             self.assertEqual(told[0][0], ())
 
     def test_the_arguments_names(self):
         self.assertEqual(Growing().counted(pile=(1, ((2, ()),)), least=2), (((), 2), ((0,), 0)))
 
 
-class Point2OfCounted(Ways):
+class Point2OfCounted(unittest.TestCase):
     def test_one_object_asked_of_one_pile_then_another_then_the_first(self):
         asked = Growing()
         for one, other in zip(SMALL, SMALL[1:] + SMALL[:1]):
