@@ -1,6 +1,6 @@
 """Piles of baskets: their counts, their columns and their trees."""
 
-from oftentogether.checks import is_number
+from oftentogether.checks import is_within
 from oftentogether.sets import MOST_WARES, is_set, lies_below, mark_of
 
 MOST_RUNS = 200
@@ -10,8 +10,7 @@ MOST_MANY = 1000000000000
 def is_run(thing, wares):
     if not isinstance(thing, tuple) or len(thing) != 2:
         return False
-    many = thing[0]
-    return is_number(many) and 1 <= many <= MOST_MANY and is_set(thing[1], wares)
+    return is_within(thing[0], 1, MOST_MANY) and is_set(thing[1], wares)
 
 
 def is_pile(thing):
@@ -19,7 +18,7 @@ def is_pile(thing):
         return False
     wares = thing[0]
     runs = thing[1]
-    if not is_number(wares) or wares > MOST_WARES:
+    if not is_within(wares, 0, MOST_WARES):
         return False
     if not isinstance(runs, tuple) or len(runs) > MOST_RUNS:
         return False

@@ -6,6 +6,7 @@ from itertools import combinations
 
 from oftentogether.errors import (NoRun, NoShare, NoStore, NoText, NotThere, NoTree,
                                   OftenError, TooGreat)
+from oftentogether.stores import Store
 
 MOST = 10 ** 12
 SHOP = (4, ((3, (0, 1)), (2, (0, 1, 3)), (5, ()), (1, (0, 1)), (4, (1, 3)), (7, (0,))))
@@ -52,11 +53,39 @@ def counted_sets(pile, least):
                  if all(some[:place] + some[place + 1:] in often for place in range(len(some))))
 
 
+def closed_by_hand(pile, least):
+    """The often sets that lose baskets by any ware more."""
+    counts = dict(counted_by_hand(pile))
+    return tuple(
+        (some, number) for some, number in counts.items() if number >= least and all(
+            counts[tuple(sorted(some + (ware,)))] < number
+            for ware in range(pile[0]) if ware not in some))
+
+
+def greatest_by_hand(pile, least):
+    often = [pair for pair in counted_by_hand(pile) if pair[1] >= least]
+    return tuple(pair for pair in often
+                 if not any(set(pair[0]) < set(other) for other, number in often))
+
+
+def seldom_by_hand(pile, least):
+    rest = [pair for pair in counted_by_hand(pile) if pair[1] < least]
+    return tuple(pair for pair in rest
+                 if not any(set(other) < set(pair[0]) for other, number in rest))
+
+
 def leasts_for(pile):
     """1, the count of each set, one more and one less than it, and more than there are baskets."""
     counts = {number for some, number in counted_by_hand(pile)}
     near = {number + step for number in counts for step in (-1, 0, 1)} | {1, 10 ** 60}
     return sorted(least for least in near if least >= 1)
+
+
+def filled(wares, runs, window=None):
+    store = Store(wares, window)
+    for many, basket in runs:
+        store.put(many, basket)
+    return store
 
 
 def random_pile(source, wares, size, manies):

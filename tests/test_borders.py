@@ -6,19 +6,7 @@ from itertools import combinations
 
 from oftentogether.borders import greatest, greatest_without, seldom, smallest_beyond
 from tests.by_hand import (GREAT, MOST, SHOP, SMALL, check_pairs, check_sets, counted_by_hand,
-                           leasts_for, random_pile, sets_in_order)
-
-
-def greatest_by_hand(pile, least):
-    often = [pair for pair in counted_by_hand(pile) if pair[1] >= least]
-    return tuple(pair for pair in often
-                 if not any(set(pair[0]) < set(other) for other, number in often))
-
-
-def seldom_by_hand(pile, least):
-    rest = [pair for pair in counted_by_hand(pile) if pair[1] < least]
-    return tuple(pair for pair in rest
-                 if not any(set(other) < set(pair[0]) for other, number in rest))
+                           greatest_by_hand, leasts_for, random_pile, seldom_by_hand, sets_in_order)
 
 
 def beyond_by_hand(wares, sets):

@@ -4,23 +4,14 @@ import random
 import unittest
 
 from oftentogether.closures import closed, closure, count_by
-from tests.by_hand import (GREAT, MOST, SHOP, SMALL, check_pairs, check_sets, counted_by_hand,
-                           leasts_for, random_pile, sets_in_order)
+from tests.by_hand import (GREAT, MOST, SHOP, SMALL, check_pairs, check_sets, closed_by_hand,
+                           counted_by_hand, leasts_for, random_pile, sets_in_order)
 
 
 def closure_by_hand(pile, some):
     """Ware by ware; where there is no basket above the set, all of them have each ware."""
     above = [basket for many, basket in pile[1] if set(some) <= set(basket)]
     return tuple(ware for ware in range(pile[0]) if all(ware in basket for basket in above))
-
-
-def closed_by_hand(pile, least):
-    """The often sets that lose baskets by any ware more."""
-    counts = dict(counted_by_hand(pile))
-    return tuple(
-        (some, number) for some, number in counts.items() if number >= least and all(
-            counts[tuple(sorted(some + (ware,)))] < number
-            for ware in range(pile[0]) if ware not in some))
 
 
 class Closure(unittest.TestCase):
